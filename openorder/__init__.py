@@ -1,0 +1,1 @@
+"""Openorder: programs whose expressions leave the order of their parts open."""

@@ -1,0 +1,26 @@
+"""Integers that wrap around, and what the operations give."""
+
+SPAN = 4294967296
+LEAST = -2147483648
+
+
+def wrapped(number):
+    """Return the value that a number outside of the values wraps around to."""
+    return (number - LEAST) % SPAN + LEAST
+
+
+def calculated(sign, left, right):
+    """Return what an operation gives; the right one is not 0 for / and ~."""
+    if sign == "==":
+        return 1 if left == right else 0
+    if sign == "<":
+        return 1 if left < right else 0
+    if sign == "+":
+        return wrapped(left + right)
+    if sign == "-":
+        return wrapped(left - right)
+    if sign == "*":
+        return wrapped(left * right)
+    if sign == "/":
+        return wrapped(left // right)
+    return wrapped(left - right * (left // right))
