@@ -64,6 +64,40 @@ class Examples(unittest.TestCase):
         self.assertEqual(run(TWICE, [0]), (("ended", 0), (0,), (3, 0, ("y", 0))))
 
 
+def all_runs(program, inputs):
+    """Return (RESULT, how many runs have it, their least CHOICES), trying every choice."""
+    found = {}
+    begun = [[]]
+    while begun:
+        choices = begun.pop()
+        offers = possible(program, inputs, choices)
+        begun.extend(choices + [place] for place in range(len(offers)))
+        if not offers:
+            found.setdefault(run(program, inputs, choices), []).append(
+                choices_of(program, inputs, turns(program, inputs, choices)))
+    return sorted((result, len(told), min(told)) for result, told in found.items())
+
+
+class AllRuns(unittest.TestCase):
+    """The numbers of runs that the document tells for small programs."""
+
+    def test_all_runs(self):
+        self.assertEqual(all_runs(TWO, []), [((("ended", 0), (0,), (1,)), 6, [0, 1]),
+                                             ((("ended", 0), (1,), (1,)), 1, [])])
+        self.assertEqual(all_runs(PAIR, []), [((("ended", 0), (), (1, 0)), 3, [])])
+        self.assertEqual(all_runs(CLASH, [5]), [((("ended", 0), (6,), (5,)), 9, []),
+                                                ((("ended", 0), (10,), (5,)), 1, [1, 1, 1])])
+        self.assertEqual(all_runs(CALM, [5]), [((("ended", 0), (12,), (7, 5)), 8, [])])
+        self.assertEqual(all_runs(CALLS, []), [((("ended", 0), (3,), (1,)), 1, [1]),
+                                               ((("ended", 0), (3,), (2,)), 1, [])])
+
+    def test_runs_without_a_conflict_end_alike(self):
+        text = ("int x = 1; int y = 2; int a[2]; fun f(int n) { return n++ * 2; } "
+                "fun main(int k) { a[k && y] = (k ? f(x) : y++) + (k = 3, k); }")
+        for k in (0, 1):
+            self.assertEqual(len(all_runs(read(text.replace("k = 3, k", "7, 8")), [k])), 1)
+
+
 class OwnSteps(unittest.TestCase):
     """Each row of the table: when the own step is possible, and what it does."""
 

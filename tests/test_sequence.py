@@ -106,7 +106,6 @@ class Sequence(unittest.TestCase):
         for text in ("x++ && y", "x++ || y", "x++, y"):
             self.assertTrue(before(text, (0, "write"), (1, "step")))
             self.assertTrue(before(text, (0, "write"), (2, "step")))
-            self.assertFalse(before("z, x && y++", (2, "write"), (3, "step")))
         self.assertFalse(before("x && y++", (1, "write"), (2, "step")))
         self.assertFalse(before("x, y++", (1, "write"), (2, "step")))
         for node in (1, 2):
@@ -119,6 +118,11 @@ class Sequence(unittest.TestCase):
         self.assertTrue(before("f(x++, y++)", (1, "write"), (2, "call")))
         self.assertFalse(before("f(x++, y++)", (0, "write"), (1, "step")))
         self.assertTrue(before("f(x + y++)", (1, "write"), (3, "call")))
+
+    def test_calls_beside_reads(self):
+        self.assertEqual(unsequenced(expression_of("x + f()")), [((0, "step"), (1, "call"))])
+        self.assertTrue(is_fixed(expression_of("x += f()")))
+        self.assertTrue(before("x += f()", (0, "call"), (1, "step")))
 
     def test_parts_of_marked_nodes_come_in_turn(self):
         self.assertTrue(before("x++ +# y", (0, "write"), (1, "step")))
