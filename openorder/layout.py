@@ -1,7 +1,6 @@
 """A program with its nodes numbered and its bodies laid out as rows."""
 
-from openorder.shapes import parts_of
-from openorder.tuples import tuples_of
+from openorder.shapes import CHOOSING, WRITING, chosen_part, is_marked, parts_of
 
 
 class Layout:
@@ -9,22 +8,29 @@ class Layout:
 
     A row is ("do", node), ("return", node), ("unless", node, row) or ("jump", row): the node is the
     last one of a full expression, the row is that at which a body goes on, for unless if it is 0.
+    The nodes in an expression are those from its first one to itself; above is -1 for a full one.
     """
 
     def __init__(self, program):
-        entries, functions = tuples_of(program)
+        entries, functions = program
         self.entries = entries
         self.expressions = []
         self.parts = []
-        self.tops = []
+        self.firsts = []
+        self.above = []
+        self.manners = []
         self.sizes = {entry[1]: entry[2] for entry in entries if entry[0] == "array"}
         self.params = {}
         self.rows = {}
+        self.ends = {}
+        self.constants = {}
+        self.openings = {}
         for name, params, body in functions:
             rows = []
             self.lay_body(body, rows)
             self.params[name] = [param for _, param in params]
             self.rows[name] = rows
+            self.ends[name] = len(self.expressions)
 
     def lay_body(self, body, rows):
         """Add the rows of a body."""
@@ -35,16 +41,16 @@ class Layout:
         """Add the rows of a statement."""
         word = statement[0]
         if word == "let":
-            rows.append(("do", self.lay_full(("set", ("var", statement[2]), statement[3], 0))))
+            rows.append(("do", self.lay_expression(("set", ("var", statement[2]), statement[3], 0))))
         elif word in ("do", "return"):
-            rows.append((word, self.lay_full(statement[1])))
+            rows.append((word, self.lay_expression(statement[1])))
         else:
             self.lay_branch(statement, rows)
 
     def lay_branch(self, statement, rows):
         """Add the rows of an if or a while; the first one leads behind its first body."""
         at = len(rows)
-        node = self.lay_full(statement[1])
+        node = self.lay_expression(statement[1])
         rows.append(("unless", node, at))
         self.lay_body(statement[2], rows)
         if statement[0] == "while":
@@ -57,28 +63,80 @@ class Layout:
         self.lay_body(statement[3], rows)
         rows[behind] = ("jump", len(rows))
 
-    def lay_full(self, expression):
-        """Number the nodes of a full expression and return the last one."""
-        node = self.lay_expression(expression)
-        self.tops.extend([node] * (node + 1 - len(self.tops)))
-        return node
-
     def lay_expression(self, expression):
         """Number the parts of an expression and then itself; return its node."""
+        first = len(self.expressions)
         parts = tuple([self.lay_expression(part) for part in parts_of(expression)])
+        node = len(self.expressions)
+        for part in parts:
+            self.above[part] = node
         self.expressions.append(expression)
         self.parts.append(parts)
-        return len(self.expressions) - 1
+        self.firsts.append(first)
+        self.above.append(-1)
+        self.manners.append(manner_of(expression))
+        return node
 
-    def constants(self, top):
-        """Return a dict of the values of the numbers and references in a full expression."""
-        found = {}
-        node = top
-        while node >= 0 and self.tops[node] == top:
-            expression = self.expressions[node]
-            if expression[0] == "num":
-                found[node] = expression[1]
-            elif expression[0] == "ref":
-                found[node] = (expression[1], 0)
-            node -= 1
-        return found
+    def top_of(self, node):
+        """Return the last node of the full expression in which a node is."""
+        while self.above[node] >= 0:
+            node = self.above[node]
+        return node
+
+    def constants_in(self, top):
+        """Return the dict of the values of the numbers and references in a full expression."""
+        if top not in self.constants:
+            found = {}
+            for node in range(self.firsts[top], top + 1):
+                expression = self.expressions[node]
+                if expression[0] == "num":
+                    found[node] = expression[1]
+                elif expression[0] == "ref":
+                    found[node] = (expression[1], 0)
+            self.constants[top] = found
+        return self.constants[top]
+
+    def opened_by(self, node):
+        """Return the nodes whose own steps wait for nothing when a node begins, in their order."""
+        if node not in self.openings:
+            self.openings[node] = self.openings_of(node)
+        return self.openings[node]
+
+    def openings_of(self, node):
+        """Return what opened_by keeps."""
+        expression = self.expressions[node]
+        if expression[0] in ("num", "ref"):
+            return []
+        parts = self.parts[node]
+        if self.manners[node] == "choose":
+            return self.openings_of_chosen(node, parts)
+        for part in parts:
+            opened = self.opened_by(part)
+            if len(opened) > 0 and self.manners[node] == "turn":
+                return opened
+        opened = [at for part in parts for at in self.opened_by(part)]
+        return opened if len(opened) > 0 else [node]
+
+    def openings_of_chosen(self, node, parts):
+        """Return the same for a node that begins its first part and then the one that this chooses."""
+        opened = self.opened_by(parts[0])
+        if len(opened) > 0:
+            return opened
+        first = self.constants_in(self.top_of(node))[parts[0]]
+        chosen = chosen_part(self.expressions[node][0], first, parts)
+        opened = self.opened_by(chosen) if chosen is not None else []
+        return opened if len(opened) > 0 else [node]
+
+
+def manner_of(expression):
+    """Return how a node waits for its parts.
+
+    "choose": the first one and then one that it chooses; "turn": one behind another, each whole;
+    "call": all of them whole; "side": all of them worked out.
+    """
+    word = expression[0]
+    if word in CHOOSING:
+        return "choose"
+    if is_marked(expression):
+        return "turn"
+    return "call" if word == "call" else "side"

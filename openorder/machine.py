@@ -3,51 +3,69 @@
 from openorder.errors import NoRun
 from openorder.layout import Layout
 from openorder.running import Running
-from openorder.tuples import tuples_of
 
 
 def run(program, inputs, choices=(), *, most=2000):
     """Return the RESULT of the run of these CHOICES, cut after the most turns."""
-    running = Running(Layout(program), tuples_of(inputs))
-    follow(running, choices, most)
+    running = begun(program, inputs)
+    for at in range(most):
+        if running.end is not None:
+            break
+        running.take(place_chosen(running, choices, at))
     return running.outcome()
 
 
 def turns(program, inputs, choices=(), *, most=2000):
     """Return the list of the TURNs of the run of these CHOICES, cut after the most turns."""
-    return follow(Running(Layout(program), tuples_of(inputs)), choices, most)
+    running = begun(program, inputs)
+    done = []
+    while running.end is None and len(done) < most:
+        place = place_chosen(running, choices, len(done))
+        done.append(running.turn_at(place))
+        running.take(place)
+    return done
 
 
 def possible(program, inputs, choices):
     """Return the list of the TURNs that are possible behind the turns of these CHOICES."""
-    running = Running(Layout(program), tuples_of(inputs))
-    follow(running, choices, len(choices))
+    running = begun(program, inputs)
+    for at in range(len(choices)):
+        if running.end is not None:
+            return []
+        running.take(place_chosen(running, choices, at))
     return running.offers()
 
 
 def choices_of(program, inputs, some):
     """Return the CHOICES of a run that begins with these TURNs; raise NoRun(at) if none does."""
-    running = Running(Layout(program), tuples_of(inputs))
-    choices = []
-    for at, turn in enumerate(tuples_of(some)):
-        offers = running.offers()
-        if turn not in offers:
-            raise NoRun(at)
-        choices.append(offers.index(turn))
-        running.take(choices[-1])
+    choices = choices_along(begun(program, inputs), some)
+    if len(choices) < len(some):
+        raise NoRun(len(choices))
     return without_noughts(choices)
 
 
-def follow(running, choices, most):
-    """Do the turns of these CHOICES, 0 behind their end, at most so many; return their list."""
-    done = []
-    while running.end is None and len(done) < most:
-        choice = choices[len(done)] if len(done) < len(choices) else 0
-        offers = running.offers()
-        place = min(choice, len(offers) - 1)
-        done.append(offers[place])
+def begun(program, inputs):
+    """Return a run that has just begun."""
+    running = Running(Layout(program))
+    running.begin(inputs)
+    return running
+
+
+def place_chosen(running, choices, at):
+    """Return the place, among the possible turns, of the one that the choice at this place takes."""
+    return min(choices[at], running.many_possible() - 1) if at < len(choices) else 0
+
+
+def choices_along(running, some):
+    """Do these TURNs as long as each is possible; return the list of the choices made."""
+    choices = []
+    for turn in some:
+        place = running.place_of(turn)
+        if place < 0:
+            return choices
+        choices.append(place)
         running.take(place)
-    return done
+    return choices
 
 
 def without_noughts(choices):

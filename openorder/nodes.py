@@ -2,6 +2,7 @@
 
 from openorder.errors import NoNode
 from openorder.layout import Layout
+from openorder.tuples import tuples_of
 
 
 def node_many(program):
@@ -11,21 +12,22 @@ def node_many(program):
 
 def node_at(program, node):
     """Return the expression with this node, of a declaration a set."""
-    return looked_up(Layout(program).expressions, node)
+    return tuples_of(layout_with(program, node).expressions[node])
 
 
 def parts_at(program, node):
     """Return the tuple of the nodes of the parts of a node."""
-    return looked_up(Layout(program).parts, node)
+    return layout_with(program, node).parts[node]
 
 
 def top_at(program, node):
     """Return the last node of the full expression in which a node is."""
-    return looked_up(Layout(program).tops, node)
+    return layout_with(program, node).top_of(node)
 
 
-def looked_up(listed, node):
-    """Return what a list has for a node; raise NoNode(node) if there is no such node."""
-    if not 0 <= node < len(listed):
+def layout_with(program, node):
+    """Return the layout of a program; raise NoNode(node) if there is no such node."""
+    layout = Layout(program)
+    if not 0 <= node < len(layout.expressions):
         raise NoNode(node)
-    return listed[node]
+    return layout

@@ -1,6 +1,11 @@
 """What the tuples of expressions are made of."""
 
-WITHOUT_PARTS = ("num", "var", "ref")
+PART_PLACES = {
+    "num": (), "var": (), "ref": (),
+    "at": (1,), "neg": (1,), "not": (1,), "print": (1,),
+    "item": (2,), "refitem": (2,), "op": (2, 3),
+    "and": (1, 2), "or": (1, 2), "comma": (1, 2), "cond": (1, 2, 3),
+}
 MARKABLE = (
     "item", "refitem", "at", "neg", "not", "print", "op", "set", "add", "inc", "call",
 )
@@ -11,18 +16,10 @@ WRITING = ("set", "add", "inc")
 def parts_of(expression):
     """Return the tuple of the parts of an expression."""
     word = expression[0]
-    if word in WITHOUT_PARTS:
-        return ()
-    if word in ("at", "neg", "not", "print"):
-        return (expression[1],)
-    if word in CHOOSING:
-        return tuple(expression[1:])
+    if word in PART_PLACES:
+        return tuple([expression[place] for place in PART_PLACES[word]])
     if word == "call":
-        return expression[2]
-    if word == "op":
-        return (expression[2], expression[3])
-    if word in ("item", "refitem"):
-        return (expression[2],)
+        return tuple(expression[2])
     if word == "inc":
         return parts_of_place(expression[1])
     return parts_of_place(expression[1]) + (expression[2],)
@@ -52,3 +49,14 @@ def array_in(expression):
     if expression[0] in WRITING:
         expression = expression[1]
     return expression[1] if expression[0] in ("item", "refitem") else ""
+
+
+def chosen_part(word, first, parts):
+    """Return the part that begins behind the first one, whose value is first; None if none does."""
+    if word == "comma":
+        return parts[1]
+    if word == "cond":
+        return parts[1] if first != 0 else parts[2]
+    if word == "and":
+        return parts[1] if first != 0 else None
+    return parts[1] if first == 0 else None

@@ -351,6 +351,38 @@ class Calls(unittest.TestCase):
         self.assertEqual(turns(program, [])[-1], (1, 3, "step"))
 
 
+class CallsInEachOther(unittest.TestCase):
+    """Programs in which a body calls the next one, as deep as it goes."""
+
+    def down(self, n):
+        return read("int x = 0; int c = 0; fun down(int n) { c++; return n ? down(n - 1) : c; } "
+                    f"fun main() {{ print(down({n}) + (x = 90)); }}")
+
+    def test_results(self):
+        for n in range(11):
+            value = n + 1 + 90
+            for choices in ([], [1], [1, 1, 1], [0] * 20 + [1, 2, 3], [5] * 99):
+                self.assertEqual(run(self.down(n), [], choices), (("ended", 0), (value,), (90, n + 1)))
+        for n in (11, 12, 13):
+            for choices in ([], [1], [1, 1, 1], [0] * 20 + [1, 2, 3]):
+                self.assertEqual(run(self.down(n), [], choices), (("stuck", ((5, "deep"),)), (), (90, 11)))
+
+    def test_turns(self):
+        for n in range(11):
+            done = turns(self.down(n), [], [1])
+            self.assertEqual(len(done), 10 + 7 * n)
+            self.assertEqual(done[:2], [(0, 11, "step"), (0, 9, "call")])
+            self.assertEqual(sum(kind == "call" for _, _, kind in done), n + 1)
+            self.assertEqual(max(depth for depth, _, _ in done), n + 1)
+            for at in (0, 1, len(done) // 2, len(done) - 1):
+                offers = possible(self.down(n), [], [1] + [0] * (at - 1) if at else [])
+                self.assertIn(done[at], offers)
+                self.assertEqual(len({depth for depth, _, _ in offers}), 1)
+            self.assertEqual(choices_of(self.down(n), [], done), [1])
+            self.assertEqual(choices_of(self.down(n), [], turns(self.down(n), [], [1, 1, 1])), [1, 1])
+        self.assertEqual(len(turns(self.down(11), [])), len(turns(self.down(13), [])))
+
+
 class BlockedSteps(unittest.TestCase):
     def stuck(self, body, *told_pairs, k=0, choices=()):
         pairs = tuple((node + IN_F, word) for node, word in told_pairs)
