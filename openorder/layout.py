@@ -18,7 +18,7 @@ class Layout:
         self.parts = []
         self.firsts = []
         self.above = []
-        self.manners = []
+        self.manners = {}
         self.sizes = {entry[1]: entry[2] for entry in entries if entry[0] == "array"}
         self.params = {}
         self.rows = {}
@@ -74,7 +74,6 @@ class Layout:
         self.parts.append(parts)
         self.firsts.append(first)
         self.above.append(-1)
-        self.manners.append(manner_of(expression))
         return node
 
     def top_of(self, node):
@@ -84,11 +83,16 @@ class Layout:
         return node
 
     def constants_in(self, top):
-        """Return the dict of the values of the numbers and references in a full expression."""
+        """Return the dict of the values of the numbers and references in a full expression.
+
+        What is needed of an expression only while it is evaluated is found out when it is first
+        asked for, since many runs do not come to most expressions.
+        """
         if top not in self.constants:
             found = {}
             for node in range(self.firsts[top], top + 1):
                 expression = self.expressions[node]
+                self.manners[node] = manner_of(expression)
                 if expression[0] == "num":
                     found[node] = expression[1]
                 elif expression[0] == "ref":

@@ -145,3 +145,40 @@ class Maker:
         if roll == 5:
             return ("set", ("var", self.chance.choice(self.refs)), self.ref(level - 1), self.mark())
         return ("refitem", "a", self.index(level), self.mark())
+
+
+class Clasher(Maker):
+    """Makes programs over few names that change much and seldom block: many of them meet conflicts."""
+
+    def __init__(self, seed, branches=True, calls=True, marks=0.15):
+        super().__init__(seed, branches, calls)
+        self.marks = marks
+
+    def mark(self):
+        return 1 if self.chance.random() < self.marks else 0
+
+    def statement(self, level, nests):
+        if self.chance.random() < 0.6:
+            return ("do", self.int(level))
+        return super().statement(level, nests if self.branches else 0)
+
+    def int(self, level):
+        if level <= 0:
+            if self.chance.random() < 0.4:
+                return ("num", self.chance.randrange(3))
+            return ("var", self.chance.choice(self.ints[:3]))
+        makers = [self.operation, self.operation, self.change, self.change, self.change, self.single]
+        if self.branches:
+            makers += [self.logic, self.choice, self.item]
+        if self.calls and self.functions:
+            makers += [self.call, self.call]
+        return self.chance.choice(makers)(level - 1)
+
+    def operation(self, level):
+        return ("op", self.chance.choice("+-*<"), self.int(level), self.int(level), self.mark())
+
+    def place(self, level):
+        roll = self.chance.randrange(6 if self.branches else 4)
+        if roll < 4:
+            return ("var", self.chance.choice(self.ints[:3]))
+        return ("at", self.ref(level), 0) if roll == 4 else ("item", "a", self.index(level), 0)

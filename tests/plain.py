@@ -19,7 +19,7 @@ def wrap(number):
 
 
 class Plain:
-    """A run from left to right of a sound program."""
+    """A run from left to right of a sound program; log has its accesses as pairs (PLACE, sort)."""
 
     def __init__(self, program, inputs):
         self.cells = {}
@@ -31,6 +31,8 @@ class Plain:
                 self.cells[(entry[1], 0)] = entry[2] if entry[0] == "int" else entry[2:]
         self.functions = {function[0]: function for function in program[1]}
         self.output = []
+        self.log = []
+        self.body_many = 0
         value = self.call("main", inputs, 0)
         told = []
         for entry in program[0]:
@@ -45,6 +47,8 @@ class Plain:
             raise Blocked
         _, params, body = self.functions[name]
         frame = {param: value for (_, param), value in zip(params, given)}
+        frame["body"] = self.body_many
+        self.body_many += 1
         try:
             self.body(body, frame, depth)
         except Returned as back:
@@ -55,6 +59,7 @@ class Plain:
         for statement in body:
             if statement[0] == "let":
                 frame[statement[2]] = self.value(statement[3], frame, depth)
+                self.saw(frame, statement[2], "write")
             elif statement[0] == "do":
                 self.value(statement[1], frame, depth)
             elif statement[0] == "return":
@@ -65,6 +70,11 @@ class Plain:
             else:
                 while self.value(statement[1], frame, depth):
                     self.body(statement[2], frame, depth)
+
+    def saw(self, table, key, sort):
+        """Put an access into the log."""
+        place = ("global",) + key if table is self.cells else ("local", table["body"], key)
+        self.log.append((place, sort))
 
     def place(self, lv, frame, depth):
         """Return the dict and the key of a place."""
@@ -85,6 +95,7 @@ class Plain:
             return (e[1], 0)
         if word in ("var", "item", "at"):
             table, key = self.place(e, frame, depth)
+            self.saw(table, key, "read")
             return table[key]
         if word == "refitem":
             return self.place(("item",) + e[1:], frame, depth)[1]
@@ -100,6 +111,7 @@ class Plain:
         part = self.value(e[1], frame, depth)
         if word == "print":
             self.output.append(part)
+            self.log.append((("output",), "write"))
             return part
         return wrap(-part) if word == "neg" else int(not part)
 
@@ -118,8 +130,13 @@ class Plain:
         if e[0] == "inc":
             old = table[key]
             table[key] = wrap(old + 1)
+            self.saw(table, key, "read")
+            self.saw(table, key, "write")
             return old
         value = self.value(e[2], frame, depth)
+        if e[0] == "add":
+            self.saw(table, key, "read")
+        self.saw(table, key, "write")
         table[key] = value if e[0] == "set" else wrap(table[key] + value)
         return table[key]
 
