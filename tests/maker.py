@@ -159,14 +159,14 @@ class Clasher(Maker):
 
     def statement(self, level, nests):
         if self.chance.random() < 0.6:
-            return ("do", self.int(level))
+            return ("do", self.operation(level - 1))
         return super().statement(level, nests if self.branches else 0)
 
     def int(self, level):
         if level <= 0:
             if self.chance.random() < 0.4:
                 return ("num", self.chance.randrange(3))
-            return ("var", self.chance.choice(self.ints[:3]))
+            return ("var", self.chance.choice(self.ints[:2]))
         makers = [self.operation, self.operation, self.change, self.change, self.change, self.single]
         if self.branches:
             makers += [self.logic, self.choice, self.item]
@@ -180,5 +180,5 @@ class Clasher(Maker):
     def place(self, level):
         roll = self.chance.randrange(6 if self.branches else 4)
         if roll < 4:
-            return ("var", self.chance.choice(self.ints[:3]))
+            return ("var", self.chance.choice(self.ints[:2]))
         return ("at", self.ref(level), 0) if roll == 4 else ("item", "a", self.index(level), 0)

@@ -16,6 +16,16 @@ LISTED = {
                 "possible": "program, inputs, choices", "choices_of": "program, inputs, some"},
     "sequence": {"items": "expression", "must_before": "expression, one, other",
                  "unsequenced": "expression", "is_fixed": "expression", "ready": "expression, done"},
+    "watcher": {"accesses": "program, inputs, choices=(), *, most=2000",
+                "conflicts": "program, inputs, choices=(), *, most=2000",
+                "first_conflict": "program, inputs, choices=(), *, most=2000",
+                "is_calm": "program, inputs, choices=(), *, most=2000"},
+    "explorer": {"ends": "program, inputs, *, most=200", "fork": "program, inputs, *, most=200",
+                 "runs_many": "program, inputs, choices=(), *, most=2000"},
+    "exchanges": {"exchanged": "program, inputs, choices, at, *, most=2000",
+                  "apart": "program, inputs, one, other, *, most=2000",
+                  "between": "program, inputs, one, other, *, most=2000",
+                  "turned_about": "program, inputs, choices, *, most=2000"},
 }
 
 

@@ -1,0 +1,123 @@
+"""[1]: what the document promises over all runs of a program, tried on small programs."""
+
+import random
+import unittest
+
+from openorder.exchanges import apart, between, exchanged, turned_about
+from openorder.explorer import ends, runs_many
+from openorder.errors import TooMany
+from openorder.machine import run, turns
+from openorder.watcher import accesses, conflicts, first_conflict, is_calm
+from tests.maker import Clasher, Maker
+from tests.programs import CALLS, CALM, CLASH, DEMO, PAIR, TWICE, TWO
+from tests.runs import all_runs
+
+INPUTS = [1, 0]
+EXAMPLES = ((DEMO, [2]), (CALM, [7]), (CLASH, [5]), (TWO, []), (PAIR, []), (CALLS, []))
+
+
+def small_programs(many, most_runs):
+    """Return the triples (program, inputs, runs) of programs that have some runs, but few."""
+    found = [(program, inputs, all_runs(program, inputs, 400)) for program, inputs in EXAMPLES]
+    for seed in range(10 * many):
+        chance = random.Random(seed)
+        maker = Maker if seed % 3 == 0 else Clasher
+        program = maker(seed).program(chance.randint(1, 3), statements=chance.randint(1, 2), level=3)
+        try:
+            number = sum(told[1] for told in ends(program, INPUTS, most=60))
+        except TooMany:
+            continue
+        if 2 < number <= most_runs and len(found) < many:
+            runs = all_runs(program, INPUTS, most_runs)
+            if runs is not None:
+                found.append((program, INPUTS, runs))
+    return found
+
+
+class Promises(unittest.TestCase):
+    @classmethod
+    def setUpClass(cls):
+        cls.programs = small_programs(100, 40)
+        assert len(cls.programs) == 100
+
+    def test_one_run_without_a_conflict_speaks_for_all(self):
+        calm = 0
+        for program, inputs, runs in self.programs:
+            if any(is_calm(program, inputs, choices) for choices in runs):
+                calm += 1
+                self.assertEqual(len({run(program, inputs, choices) for choices in runs}), 1)
+                self.assertEqual(len({len(turns(program, inputs, choices)) for choices in runs}), 1)
+                self.assertTrue(all(conflicts(program, inputs, choices) == [] for choices in runs))
+                self.assertEqual(runs_many(program, inputs, runs[-1]), len(runs))
+        self.assertGreater(calm, 30)
+
+    def test_the_first_conflict_turned_about(self):
+        met = 0
+        for program, inputs, runs in self.programs:
+            for choices in runs[::3]:
+                conflict = first_conflict(program, inputs, choices)
+                found = turned_about(program, inputs, choices)
+                self.assertEqual(found is None, conflict is None)
+                if conflict is None:
+                    continue
+                met += 1
+                self.assertIsNotNone(first_conflict(program, inputs, found))
+                self.assertNotEqual(turns(program, inputs, found), turns(program, inputs, choices))
+        self.assertGreater(met, 80)
+
+    def test_the_second_access_comes_while_the_first_one_has_not_come_yet(self):
+        for program, inputs in ((TWO, []), (CLASH, [5]), (CALLS, [])):
+            for choices in all_runs(program, inputs, 400):
+                conflict = first_conflict(program, inputs, choices)
+                if conflict is None:
+                    continue
+                place, one, other = conflict
+                other_run = turned_about(program, inputs, choices)
+                done = turns(program, inputs, other_run)
+                ways = [(done[turn][1], sort) for turn, found, sort in accesses(program, inputs, other_run) if found == place]
+                if len(one[0]) == 1:
+                    self.assertLess(ways.index((other[0][0], other[1])), ways.index((one[0][0], one[1])))
+
+    def test_runs_are_turned_into_each_other(self):
+        for program, inputs, runs in self.programs:
+            if not is_calm(program, inputs):
+                continue
+            chance = random.Random(len(runs))
+            for _ in range(4):
+                one, other = chance.choice(runs), chance.choice(runs)
+                choices = one
+                exchanges = between(program, inputs, one, other)
+                self.assertEqual(len(exchanges), apart(program, inputs, one, other))
+                for at in exchanges:
+                    choices = exchanged(program, inputs, choices, at)
+                self.assertEqual(turns(program, inputs, choices), turns(program, inputs, other))
+
+    def test_fewest_exchanges(self):
+        for program, inputs in ((CALM, [7]), (PAIR, [])):
+            runs = all_runs(program, inputs, 100)
+            done = {tuple(turns(program, inputs, choices)): choices for choices in runs}
+            for start in runs:
+                far = {tuple(turns(program, inputs, start)): 0}
+                reached = [start]
+                while reached:
+                    choices = reached.pop(0)
+                    here = tuple(turns(program, inputs, choices))
+                    for at in range(len(here)):
+                        try:
+                            behind = exchanged(program, inputs, choices, at)
+                        except RuntimeError:
+                            continue
+                        there = tuple(turns(program, inputs, behind))
+                        if there not in far:
+                            far[there] = far[here] + 1
+                            reached.append(behind)
+                self.assertEqual(set(far), set(done))
+                for there, choices in done.items():
+                    self.assertEqual(apart(program, inputs, start, choices), far[there])
+
+    def test_an_example_with_many_runs(self):
+        self.assertEqual(sum(told[1] for told in ends(TWICE, [4])), runs_many(TWICE, [4]))
+
+
+if __name__ == "__main__":
+    unittest.main()
