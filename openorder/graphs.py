@@ -53,15 +53,15 @@ class Graph:
 
     def count_runs(self):
         """Count the runs from each STATE on; all that lie behind it have greater numbers."""
-        counts = {}
+        self.counts = [{} for _ in self.nexts]
         for number in reversed(range(len(self.nexts))):
-            counts[number] = {}
+            count = {}
             if self.results[number] is not None:
-                counts[number][self.results[number]] = 1
+                count[self.results[number]] = 1
             for behind in self.nexts[number]:
-                for result, many in counts[behind].items():
-                    counts[number][result] = counts[number].get(result, 0) + many
-        self.counts = [counts[number] for number in range(len(self.nexts))]
+                for result, many in self.counts[behind].items():
+                    count[result] = count.get(result, 0) + many
+            self.counts[number] = count
 
     def least_choices(self, result):
         """Return the least choices, one for each turn, of a run with this RESULT."""

@@ -8,7 +8,8 @@ class Layout:
 
     A row is ("do", node), ("return", node), ("unless", node, row) or ("jump", row): the node is the
     last one of a full expression, the row is that at which a body goes on, for unless if it is 0.
-    The nodes in an expression are those from its first one to itself; above is -1 for a full one.
+    The nodes in an expression are those from its first one to itself; above is -1 for a full one;
+    declared has the last nodes of declarations.
     """
 
     def __init__(self, program):
@@ -18,6 +19,7 @@ class Layout:
         self.parts = []
         self.firsts = []
         self.above = []
+        self.declared = {}
         self.manners = {}
         self.sizes = {entry[1]: entry[2] for entry in entries if entry[0] == "array"}
         self.params = {}
@@ -41,7 +43,9 @@ class Layout:
         """Add the rows of a statement."""
         word = statement[0]
         if word == "let":
-            rows.append(("do", self.lay_expression(("set", ("var", statement[2]), statement[3], 0))))
+            node = self.lay_expression(("set", ("var", statement[2]), statement[3], 0))
+            self.declared[node] = True
+            rows.append(("do", node))
         elif word in ("do", "return"):
             rows.append((word, self.lay_expression(statement[1])))
         else:

@@ -26,6 +26,12 @@ LISTED = {
                   "apart": "program, inputs, one, other, *, most=2000",
                   "between": "program, inputs, one, other, *, most=2000",
                   "turned_about": "program, inputs, choices, *, most=2000"},
+    "pointing": {"targets": "program", "footprint": "program, function"},
+    "checker": {"may_access": "program, item", "refused": "program", "first_refused": "program",
+                "is_let_by": "program"},
+    "mending": {"way": "program, one, other", "marks_needed": "program", "least_many": "program",
+                "least_mends": "program", "first_mend": "program", "mended": "program, nodes"},
+    "needs": {"fewest_spills": "expression, registers", "best_plan": "expression, registers", "need": "expression"},
 }
 
 

@@ -3,10 +3,12 @@
 import random
 import unittest
 
+from openorder.checker import is_let_by
 from openorder.exchanges import apart, between, exchanged, turned_about
 from openorder.explorer import ends, runs_many
 from openorder.errors import TooMany
 from openorder.machine import run, turns
+from openorder.mending import first_mend, marks_needed, mended
 from openorder.watcher import accesses, conflicts, first_conflict, is_calm
 from tests.maker import Clasher, Maker
 from tests.programs import CALLS, CALM, CLASH, DEMO, PAIR, TWICE, TWO
@@ -114,6 +116,27 @@ class Promises(unittest.TestCase):
                 self.assertEqual(set(far), set(done))
                 for there, choices in done.items():
                     self.assertEqual(apart(program, inputs, start, choices), far[there])
+
+    def test_programs_that_are_let_by_and_mended_ones(self):
+        let_by = mended_many = 0
+        for program, inputs, runs in self.programs:
+            result = run(program, inputs)
+            if is_let_by(program):
+                let_by += 1
+                self.assertTrue(all(conflicts(program, inputs, choices) == [] for choices in runs))
+                self.assertEqual({run(program, inputs, choices) for choices in runs}, {result})
+                self.assertEqual((marks_needed(program), first_mend(program)), (0, ()))
+                continue
+            mend = first_mend(program)
+            form = mended(program, mend)
+            self.assertEqual(len(mend), marks_needed(program))
+            self.assertTrue(is_let_by(form))
+            mended_many += 1
+            for choices in all_runs(form, inputs, 400):
+                self.assertEqual(conflicts(form, inputs, choices), [])
+                if result[0][0] == "ended":
+                    self.assertEqual(run(form, inputs, choices), result)
+        self.assertGreater(min(let_by, mended_many), 15)
 
     def test_an_example_with_many_runs(self):
         self.assertEqual(sum(told[1] for told in ends(TWICE, [4])), runs_many(TWICE, [4]))
