@@ -223,6 +223,20 @@ class OwnSteps(unittest.TestCase):
         self.assertEqual(made("x = x++;", [0, 1, 1]), [(0, "step"), (1, "step"), (1, "write"), (0, "write")])
         self.assertEqual(offered("x = x++;", [0, 1]), [(0, "write"), (1, "write")])
 
+    def test_writes_that_come_behind_the_nodes_above(self):
+        for body, next_turn in (("-x++, y;", (2, "step")), ("-x++ && y;", (2, "step")), ("-x++ +# y;", (2, "step")),
+                                ("f(-x++);", (2, "call")), ("print#(-x++);", (2, "step"))):
+            with self.subTest(body=body):
+                self.assertEqual(offered(body, [0, 1]), [(0, "write")])
+                self.assertEqual(offered(body, [0, 1, 0]), [next_turn])
+        self.assertEqual(offered("!-x++ ? y : k;", [0, 1, 1]), [(0, "write")])
+        self.assertEqual(offered("!-x++ ? y : k;", [0, 1, 1, 0]), [(4, "step")])
+        body = "(x = -(y = k++)), a[0];"
+        self.assertEqual(offered(body, [0, 1, 1, 1, 1]), [(0, "write"), (3, "write")])
+        self.assertEqual(offered(body, [0, 1, 1, 1, 1, 0]), [(3, "write")])
+        self.assertEqual(offered(body, [0, 1, 1, 1, 1, 1]), [(0, "write")])
+        self.assertEqual(offered(body, [0, 1, 1, 1, 1, 1, 0]), [(5, "step")])
+
     def test_print(self):
         self.assertEqual(offered("print(x);"), [(0, "step")])
         self.assertEqual(offered("print(x);", [0]), [(1, "step")])
@@ -247,9 +261,17 @@ class OwnSteps(unittest.TestCase):
         self.assertEqual(offered("x =# y++;", [0]), [(0, "write")])
         self.assertEqual(offered("-#y++;", [0]), [(0, "write")])
         self.assertEqual(offered("f#(x);", [0]), [(1, "call")])
+        for body in ("a[#k++];", "&a[#k++];", "!#k++;", "print#(k++);", "f#(k++);", "a[k++] =# 1;", "a[k++] +=# 1;"):
+            self.assertEqual(offered(body, [0]), [(0, "write")])
+        self.assertEqual(offered("*#(p = &x);", [0]), [(1, "write")])
         self.assertEqual(offered("a[k++]++#;", [0]), [(0, "write")])
         self.assertEqual(offered("a[k] =# x + y;"), [(0, "step")])
         self.assertEqual(offered("a[k] =# x + y;", [0]), [(1, "step"), (2, "step")])
+        text = "fun g(int n, int m, int o, int p) { } fun main(int k) { g#(1, k++, 2, k); g#(k, 3, 4, 5); }"
+        self.assertEqual([turns(read(text), [0])[at][1:] for at in range(4)],
+                         [(1, "step"), (1, "write"), (3, "step"), (4, "call")])
+        self.assertEqual(possible(read(text), [0], [0]), [(0, 1, "write")])
+        self.assertEqual(turns(read(text), [0])[4:], [(0, 5, "step"), (0, 9, "call")])
         text = "fun g(int n, int m) { } fun main(int k) { g#(k++, k); }"
         self.assertEqual(possible(read(text), [0], []), [(0, 0, "step")])
         self.assertEqual(possible(read(text), [0], [0]), [(0, 0, "write")])

@@ -209,6 +209,10 @@ class Mends(unittest.TestCase):
             least_mends(program)
         self.assertEqual(caught.exception.many, 308)
         self.assertEqual(first_mend(program), (1, 6, 14))
+        program = main("".join("x = " + "-" * many + "x++; " for many in (6, 42)))
+        with self.assertRaises(TooMany) as caught:
+            least_mends(program)
+        self.assertEqual(caught.exception.many, 301)
         program = main(three * 3 + four * 7)
         self.assertEqual(least_many(program), 3 ** 3 * 4 ** 7)
         with self.assertRaises(TooMany) as caught:
