@@ -162,6 +162,22 @@ class Language(unittest.TestCase):
                 if isinstance(node, ast.Call):
                     self.assertIsInstance(node.func, (ast.Name, ast.Attribute), (path, node.lineno))
 
+    def test_what_a_loop_iterates_over_is_not_modified(self):
+        for path, _, tree in self.each():
+            for loop in [node for node in ast.walk(tree) if isinstance(node, ast.For)]:
+                for node in [node for statement in loop.body for node in ast.walk(statement)]:
+                    self.assertNotIn(modified_by(node), iterated_over(loop.iter), (path, node.lineno)
+                                     if hasattr(node, "lineno") else path)
+
+    def test_views_are_iterated_at_once(self):
+        for path, _, tree in self.each():
+            for node in ast.walk(tree):
+                if isinstance(node, (ast.Assign, ast.Return)) and isinstance(node.value, ast.Call):
+                    called = node.value.func
+                    name = called.id if isinstance(called, ast.Name) else called.attr
+                    self.assertNotIn(name, ("range", "zip", "enumerate", "reversed", "map", "items", "keys", "values"),
+                                     (path, node.lineno))
+
     def test_no_sets(self):
         # The rules allow sets in some places; the package does without them.
         for path, _, tree in self.each():
@@ -185,6 +201,25 @@ class Language(unittest.TestCase):
                     self.assertNotIn(token.string, BARRED_WORDS, (path, token.start))
                 if token.type == tokenize.STRING:
                     self.assertNotRegex(token.string, r"\\[^nt\\'\"]", (path, token.start))
+
+
+def iterated_over(node):
+    """Return the texts of the lists and dicts that a loop goes over."""
+    if isinstance(node, ast.Call) and isinstance(node.func, ast.Name) and node.func.id in ("enumerate", "zip", "reversed"):
+        return [text for part in node.args for text in iterated_over(part)]
+    if isinstance(node, ast.Call) and isinstance(node.func, ast.Attribute) and node.func.attr in ("items", "keys", "values"):
+        return iterated_over(node.func.value)
+    return [ast.unparse(node)] if isinstance(node, (ast.Name, ast.Attribute, ast.Subscript)) else []
+
+
+def modified_by(node):
+    """Return the text of what a node modifies, by an item or by a method, or None."""
+    if isinstance(node, ast.Subscript) and not isinstance(node.ctx, ast.Load):
+        return ast.unparse(node.value)
+    if isinstance(node, ast.Call) and isinstance(node.func, ast.Attribute) and node.func.attr in (
+            "append", "clear", "extend", "insert", "pop", "remove", "reverse", "setdefault", "update", "sort"):
+        return ast.unparse(node.func.value)
+    return None
 
 
 def bound_names(node):
