@@ -1,8 +1,10 @@
 """A body at work: the statement that is reached and its full expression so far."""
 
-from openorder.shapes import WRITING, array_in, chosen_part
+from openorder.shapes import CHOOSING, WRITING, array_in, chosen_part
 
 DEEPEST = 11
+HINDERED = ("op", "call", "item", "refitem", "set", "add", "inc")
+WAITING = ("call", "and", "or", "cond", "comma")
 
 
 class Body:
@@ -90,11 +92,13 @@ class Body:
 
     def admit(self, node):
         """Take up an own step that waits for nothing: it is possible, or it is blocked."""
-        word = self.hindrance(node)
-        if word == "":
-            self.offer(node + node)
-        else:
-            self.blocked.append((node, word))
+        expression = self.layout.expressions[node]
+        if expression[0] in HINDERED:
+            word = self.hindrance(node, expression)
+            if word != "":
+                self.blocked.append((node, word))
+                return
+        self.offer(node + node)
 
     def offer(self, turn):
         """Add a turn to the possible ones."""
@@ -102,9 +106,8 @@ class Body:
         if len(self.possible) > 1 and self.possible[-2] > turn:
             self.possible = sorted(self.possible)
 
-    def hindrance(self, node):
+    def hindrance(self, node, expression):
         """Return the word that tells why an own step blocks, or "" if it can be done."""
-        expression = self.layout.expressions[node]
         word = expression[0]
         if word == "op":
             if expression[1] in ("/", "~") and self.worked[self.layout.parts[node][1]] == 0:
@@ -121,17 +124,18 @@ class Body:
     def finish(self, node, value):
         """Keep the value that an own step gives, and admit what waited only for it."""
         self.worked[node] = value
-        if self.layout.expressions[node][0] in WRITING:
+        layout = self.layout
+        if layout.expressions[node][0] in WRITING:
             self.offer(node + node + 1)
-        above = self.layout.above[node]
+        above = layout.above[node]
         if above < 0:
             return
-        if self.layout.manners[above] == "side":
-            for part in self.layout.parts[above]:
+        if is_side_by_side(layout.expressions[above]):
+            for part in layout.parts[above]:
                 if part not in self.worked:
                     return
             self.admit(above)
-        elif self.layout.manners[above] == "choose" and node != self.layout.parts[above][0]:
+        elif layout.expressions[above][0] in CHOOSING and node != layout.parts[above][0]:
             self.admit(above)
         elif self.has_no_write_due(node):
             self.go_on_above(node, above)
@@ -139,37 +143,33 @@ class Body:
     def written(self, node):
         """Take a write off those that are due, and admit what waited only for it."""
         self.due.pop(node)
-        while self.has_no_write_due(node):
-            above = self.layout.above[node]
-            if above < 0:
+        above = self.layout.above
+        while self.has_no_write_due(node) and above[node] >= 0:
+            if above[node] not in self.worked:
+                if not is_side_by_side(self.layout.expressions[above[node]]):
+                    self.go_on_above(node, above[node])
                 return
-            if above not in self.worked:
-                if self.layout.manners[above] != "side":
-                    self.go_on_above(node, above)
-                return
-            node = above
+            node = above[node]
 
     def has_no_write_due(self, node):
         """Tell whether no write in a node is due; if it is worked out, it is whole then."""
-        first = self.layout.firsts[node]
         for late in self.due:
-            if first <= late <= node:
+            if self.layout.firsts[node] <= late <= node:
                 return False
         return True
 
     def go_on_above(self, node, above):
         """Go on in the node above, which waited for a part to be whole."""
+        expression = self.layout.expressions[above]
         parts = self.layout.parts[above]
-        if self.layout.manners[above] == "call":
-            if all([part in self.worked for part in parts]) and self.has_no_write_due(above):
-                self.admit(above)
-        elif self.layout.manners[above] == "choose":
+        if expression[0] in CHOOSING:
             if node == parts[0]:
-                word = self.layout.expressions[above][0]
-                self.begin_next(chosen_part(word, self.worked[node], parts), above)
-        else:
+                self.begin_next(chosen_part(expression[0], self.worked[node], parts), above)
+        elif expression[-1] == 1:
             behind = parts.index(node) + 1
             self.begin_next(parts[behind] if behind < len(parts) else None, above)
+        elif all([part in self.worked for part in parts]) and self.has_no_write_due(above):
+            self.admit(above)
 
     def begin_next(self, part, above):
         """Begin a part of the node above, or admit this one if there is no part to begin."""
@@ -179,7 +179,12 @@ class Body:
         self.begin(part)
         if part not in self.worked:
             return
-        if self.layout.manners[above] == "turn":
-            self.go_on_above(part, above)
-        else:
+        if self.layout.expressions[above][0] in CHOOSING:
             self.admit(above)
+        else:
+            self.go_on_above(part, above)
+
+
+def is_side_by_side(expression):
+    """Tell whether a node that has parts begins them at once and waits only for their values."""
+    return expression[0] not in WAITING and expression[-1] != 1

@@ -1,6 +1,6 @@
 """A program with its nodes numbered and its bodies laid out as rows."""
 
-from openorder.shapes import CHOOSING, WRITING, chosen_part, is_marked, parts_of
+from openorder.shapes import CHOOSING, chosen_part, parts_of
 
 
 class Layout:
@@ -20,7 +20,6 @@ class Layout:
         self.firsts = []
         self.above = []
         self.declared = {}
-        self.manners = {}
         self.sizes = {entry[1]: entry[2] for entry in entries if entry[0] == "array"}
         self.params = {}
         self.rows = {}
@@ -70,10 +69,13 @@ class Layout:
     def lay_expression(self, expression):
         """Number the parts of an expression and then itself; return its node."""
         first = len(self.expressions)
-        parts = tuple([self.lay_expression(part) for part in parts_of(expression)])
-        node = len(self.expressions)
-        for part in parts:
-            self.above[part] = node
+        parts = parts_of(expression)
+        node = first
+        if len(parts) > 0:
+            parts = tuple([self.lay_expression(part) for part in parts])
+            node = len(self.expressions)
+            for part in parts:
+                self.above[part] = node
         self.expressions.append(expression)
         self.parts.append(parts)
         self.firsts.append(first)
@@ -96,7 +98,6 @@ class Layout:
             found = {}
             for node in range(self.firsts[top], top + 1):
                 expression = self.expressions[node]
-                self.manners[node] = manner_of(expression)
                 if expression[0] == "num":
                     found[node] = expression[1]
                 elif expression[0] == "ref":
@@ -107,44 +108,29 @@ class Layout:
     def opened_by(self, node):
         """Return the nodes whose own steps wait for nothing when a node begins, in their order."""
         if node not in self.openings:
-            self.openings[node] = self.openings_of(node)
+            self.openings[node] = self.openings_of(node, self.parts[node])
         return self.openings[node]
 
-    def openings_of(self, node):
+    def openings_of(self, node, parts):
         """Return what opened_by keeps."""
         expression = self.expressions[node]
         if expression[0] in ("num", "ref"):
             return []
-        parts = self.parts[node]
-        if self.manners[node] == "choose":
-            return self.openings_of_chosen(node, parts)
-        for part in parts:
-            opened = self.opened_by(part)
-            if len(opened) > 0 and self.manners[node] == "turn":
-                return opened
-        opened = [at for part in parts for at in self.opened_by(part)]
+        opened = []
+        if expression[0] in CHOOSING:
+            opened = self.openings_of_chosen(expression[0], parts)
+        elif len(parts) > 0:
+            is_in_turn = expression[-1] == 1
+            for part in parts:
+                if len(opened) == 0 or not is_in_turn:
+                    opened = opened + self.opened_by(part)
         return opened if len(opened) > 0 else [node]
 
-    def openings_of_chosen(self, node, parts):
-        """Return the same for a node that begins its first part and then the one that this chooses."""
+    def openings_of_chosen(self, word, parts):
+        """Return the same for the parts of a node that begins its first one and then a chosen one."""
         opened = self.opened_by(parts[0])
         if len(opened) > 0:
             return opened
-        first = self.constants_in(self.top_of(node))[parts[0]]
-        chosen = chosen_part(self.expressions[node][0], first, parts)
-        opened = self.opened_by(chosen) if chosen is not None else []
-        return opened if len(opened) > 0 else [node]
-
-
-def manner_of(expression):
-    """Return how a node waits for its parts.
-
-    "choose": the first one and then one that it chooses; "turn": one behind another, each whole;
-    "call": all of them whole; "side": all of them worked out.
-    """
-    word = expression[0]
-    if word in CHOOSING:
-        return "choose"
-    if is_marked(expression):
-        return "turn"
-    return "call" if word == "call" else "side"
+        first = self.constants_in(self.top_of(parts[0]))[parts[0]]
+        chosen = chosen_part(word, first, parts)
+        return self.opened_by(chosen) if chosen is not None else []

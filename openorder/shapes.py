@@ -17,7 +17,12 @@ def parts_of(expression):
     """Return the tuple of the parts of an expression."""
     word = expression[0]
     if word in PART_PLACES:
-        return tuple([expression[place] for place in PART_PLACES[word]])
+        places = PART_PLACES[word]
+        if len(places) == 0:
+            return ()
+        if len(places) == 1:
+            return (expression[places[0]],)
+        return tuple([expression[place] for place in places])
     if word == "call":
         return tuple(expression[2])
     if word == "inc":
