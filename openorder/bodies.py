@@ -60,7 +60,7 @@ class Body:
         """Go on at a row: begin its full expression, or return 0 behind the last row."""
         rows = self.layout.rows[self.function]
         while row < len(rows) and rows[row][0] == "jump":
-            row = rows[row][1]
+            row = rows[row][2]
         if row == len(rows):
             self.returned = 0
             return

@@ -1,8 +1,8 @@
 """How many orders ITEMs have in which each comes behind all that must come before it."""
 
 from openorder.errors import TooMany
+from openorder.masks import places_in
 from openorder.most import MOST_SETS
-from openorder.ordering import places_in
 
 
 def orders_many(before, mask):

@@ -6,10 +6,10 @@ from openorder.shapes import CHOOSING, chosen_part, parts_of
 class Layout:
     """The nodes of a program, in lists by their numbers, and the rows of its functions.
 
-    A row is ("do", node), ("return", node), ("unless", node, row) or ("jump", row): the node is the
-    last one of a full expression, the row is that at which a body goes on, for unless if it is 0.
-    The nodes in an expression are those from its first one to itself; above is -1 for a full one;
-    declared has the last nodes of declarations.
+    A row is ("do", node), ("return", node), ("unless", node, row) or ("jump", node, row): the node is
+    the last one of a full expression, of a jump that of its if or while; the row is that at which a
+    body goes on, for unless if it is 0. The nodes in an expression are those from its first one to
+    itself; above is -1 for a full one; declared has the last nodes of declarations.
     """
 
     def __init__(self, program):
@@ -57,14 +57,14 @@ class Layout:
         rows.append(("unless", node, at))
         self.lay_body(statement[2], rows)
         if statement[0] == "while":
-            rows.append(("jump", at))
+            rows.append(("jump", node, at))
             rows[at] = ("unless", node, len(rows))
             return
         behind = len(rows)
-        rows.append(("jump", behind))
+        rows.append(("jump", node, behind))
         rows[at] = ("unless", node, len(rows))
         self.lay_body(statement[3], rows)
-        rows[behind] = ("jump", len(rows))
+        rows[behind] = ("jump", node, len(rows))
 
     def lay_expression(self, expression):
         """Number the parts of an expression and then itself; return its node."""

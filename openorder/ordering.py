@@ -1,18 +1,8 @@
 """The ITEMs of an expression and which of them must come before which."""
 
+from openorder.masks import places_in
 from openorder.shapes import CHOOSING, WRITING, is_marked, own_kind, parts_of
 from openorder.tuples import tuples_of
-
-
-def places_in(mask):
-    """Return the ascending list of the places of the ones in a mask."""
-    places = []
-    place = 0
-    while mask >> place > 0:
-        if mask >> place & 1 == 1:
-            places.append(place)
-        place += 1
-    return places
 
 
 class Ordering:

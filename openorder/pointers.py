@@ -1,6 +1,7 @@
 """Where the references of a program may point, found without running it."""
 
 from openorder.layout import Layout
+from openorder.shapes import declared_in
 
 
 class Pointers:
@@ -37,18 +38,8 @@ class Pointers:
         """Keep the kinds of the parameters and locals of a function."""
         name, params, body = function
         self.params[name] = params
-        for kind, param in params:
-            self.kinds[(name, param)] = kind
-        self.declare_locals(name, body)
-
-    def declare_locals(self, name, body):
-        """Keep the kinds of the locals that are declared in a body."""
-        for statement in body:
-            if statement[0] == "let":
-                self.kinds[(name, statement[2])] = statement[1]
-            elif statement[0] in ("if", "while"):
-                for inner in statement[2:]:
-                    self.declare_locals(name, inner)
+        for kind, variable in list(params) + declared_in(body):
+            self.kinds[(name, variable)] = kind
 
     def function_of(self, node):
         """Return the name of the function in which a node is."""

@@ -1,6 +1,7 @@
 """A run of a program at one moment."""
 
 from openorder.bodies import Body
+from openorder.cells import cells_at_first, values_told
 from openorder.errors import OtherInputs
 from openorder.steps import STEPS
 
@@ -156,21 +157,4 @@ class Running:
 
     def values_of_globals(self):
         """Return the tuple of the values of the globals, of an array the tuple of its cells."""
-        told = []
-        for entry in self.layout.entries:
-            cells = self.cells[entry[1]]
-            told.append(tuple(cells) if entry[0] == "array" else cells[0])
-        return tuple(told)
-
-
-def cells_at_first(entries):
-    """Return a dict of the lists of the cells of the globals at the beginning."""
-    cells = {}
-    for entry in entries:
-        if entry[0] == "array":
-            cells[entry[1]] = [0] * entry[2]
-        elif entry[0] == "int":
-            cells[entry[1]] = [entry[2]]
-        else:
-            cells[entry[1]] = [(entry[2], entry[3])]
-    return cells
+        return values_told(self.layout.entries, self.cells)

@@ -1,4 +1,4 @@
-"""What the tuples of expressions are made of."""
+"""What the tuples of expressions and statements are made of."""
 
 PART_PLACES = {
     "num": (), "var": (), "ref": (),
@@ -65,3 +65,15 @@ def chosen_part(word, first, parts):
     if word == "and":
         return parts[1] if first != 0 else None
     return parts[1] if first == 0 else None
+
+
+def declared_in(body):
+    """Return the list of the pairs (kind, name) of the locals of a body, inner ones too, in their order."""
+    found = []
+    for statement in body:
+        if statement[0] == "let":
+            found.append((statement[1], statement[2]))
+        elif statement[0] in ("if", "while"):
+            for inner in statement[2:]:
+                found.extend(declared_in(inner))
+    return found

@@ -182,3 +182,54 @@ class Clasher(Maker):
         if roll < 4:
             return ("var", self.chance.choice(self.ints[:2]))
         return ("at", self.ref(level), 0) if roll == 4 else ("item", "a", self.index(level), 0)
+
+
+class Looper(Maker):
+    """Makes programs with many loops, which mostly come to an end, and much that stays the same in them."""
+
+    def __init__(self, seed, branches=True, calls=True):
+        super().__init__(seed, branches, calls)
+        self.loops = 0
+
+    def mark(self):
+        return 1 if self.chance.random() < 0.05 else 0
+
+    def statement(self, level, nests):
+        roll = self.chance.randrange(10)
+        if roll < 4 and nests > 0:
+            return self.loop(level, nests)
+        if roll < 7:
+            place = ("var", self.chance.choice(self.ints))
+            return ("do", (self.chance.choice(("set", "add")), place, self.int(level), self.mark()))
+        return super().statement(level, nests if roll == 7 else 0)
+
+    def loop(self, level, nests):
+        """Make a while over a name of its own, by which nothing else is changed; else one that may not end."""
+        counter = self.chance.choice(("y", "x", "k"))
+        if counter not in self.ints:
+            counter = "y"
+        count = ("inc", ("var", counter), 0)
+        bound = ("num", self.chance.randrange(-3, 6) % 6)
+        if self.chance.random() < 0.2:
+            condition = ("op", "<", count, ("var", self.chance.choice(self.ints)), 0)
+        else:
+            condition = ("op", "<", count, bound, 0)
+        roll = self.chance.randrange(6)
+        if roll == 0:
+            condition = ("and", condition, self.int(1))
+        elif roll == 1:
+            condition = ("comma", self.int(1), condition)
+        elif roll == 2:
+            condition = ("op", "*", condition, self.int(1), 0)
+        elif roll == 3:
+            condition = ("and", self.int(1), condition)
+        return ("while", condition, self.body(3, level, nests - 1))
+
+    def program(self, functions=2, statements=3, level=3, nests=3):
+        return super().program(functions, statements, level)
+
+    def place(self, level):
+        roll = self.chance.randrange(8)
+        if roll < 5:
+            return ("var", self.chance.choice(self.ints))
+        return ("at", self.ref(level), 0) if roll < 7 else ("item", "a", self.index(level), 0)
