@@ -7,6 +7,11 @@ from openorder.running import Running
 
 def run(program, inputs, choices=(), *, most=2000):
     """Return the RESULT of the run of these CHOICES, cut after the most turns."""
+    return run_by(program, inputs, choices, most)
+
+
+def run_by(program, inputs, choices, most):
+    """Return what run returns."""
     running = begun(program, inputs)
     for at in range(most):
         if running.end is not None:

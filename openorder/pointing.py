@@ -13,7 +13,16 @@ def targets(program):
 
 def footprint(program, function):
     """Return the names that a call of the function may read, and those that it may write."""
-    footprints = Footprints(Pointers(program))
-    if function not in footprints.touched:
+    found = footprints_of(program)
+    if function not in found:
         raise NoFunction(function)
-    return (footprints.names(function, "read"), footprints.names(function, "write"))
+    return found[function]
+
+
+def footprints_of(program):
+    """Return the dict of the footprints of all functions, by their names."""
+    footprints = Footprints(Pointers(program))
+    found = {}
+    for name in footprints.touched:
+        found[name] = (footprints.names(name, "read"), footprints.names(name, "write"))
+    return found

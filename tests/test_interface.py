@@ -32,6 +32,19 @@ LISTED = {
     "mending": {"way": "program, one, other", "marks_needed": "program", "least_many": "program",
                 "least_mends": "program", "first_mend": "program", "mended": "program, nodes"},
     "needs": {"fewest_spills": "expression, registers", "best_plan": "expression, registers", "need": "expression"},
+    "code": {"rows_of": "program", "compiled": "program, registers=4"},
+    "fitting": {"fitted": "code, registers"},
+    "codemachine": {"code_run": "code, inputs, *, most=20000",
+                    "code_choices": "program, inputs, registers=4, *, most=2000"},
+    "codetexts": {"code_text": "code", "code_in": "text"},
+    "optimizer": {"improved": "program, code, word", "optimized": "program, words=('fold', 'share', 'carry', 'drop', 'lift')"},
+    "desk": {"answers": "text"},
+}
+METHODS = {
+    "put": "function", "replace": "function", "take": "name", "lay": "entry", "mend": "", "undo": "",
+    "do": "deeds, *, whole=True", "program_now": "", "text": "", "functions": "", "run": "inputs", "first_refused": "",
+    "footprint": "name", "code_for": "registers=4", "changed": "", "deeds": "", "as_of": "many", "log": "",
+    "__init__": "program", "__len__": "", "__eq__": "other", "__repr__": "",
 }
 
 
@@ -44,6 +57,17 @@ class Interface(unittest.TestCase):
                     found = getattr(module, function)
                     self.assertEqual(found.__module__, "openorder." + name)
                     self.assertEqual(str(inspect.signature(found)), f"({arguments})")
+
+    def test_workshop(self):
+        made = importlib.import_module("openorder.workshop").Workshop
+        self.assertEqual(made.__module__, "openorder.workshop")
+        for name, arguments in METHODS.items():
+            with self.subTest(method=name):
+                told = ", ".join(["self", arguments] if arguments else ["self"])
+                self.assertEqual(str(inspect.signature(vars(made)[name])), f"({told})")
+
+    def test_passes(self):
+        self.assertEqual(importlib.import_module("openorder.optimizer").PASSES, ("fold", "share", "carry", "drop", "lift"))
 
     def test_most(self):
         self.assertEqual([most.MOST_STATES, most.MOST_SETS], [1000, 4000])

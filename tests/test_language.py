@@ -109,6 +109,7 @@ class Language(unittest.TestCase):
                 del left[name]
 
     def test_statements_and_values(self):
+        own = self.own_names()
         for path, _, tree in self.each():
             for node in ast.walk(tree):
                 where = (path, getattr(node, "lineno", 0))
@@ -118,8 +119,9 @@ class Language(unittest.TestCase):
                 if isinstance(node, ast.Compare) and any(isinstance(sign, (ast.Is, ast.IsNot)) for sign in node.ops):
                     self.assertIsInstance(node.comparators[0], ast.Constant, where)
                 if isinstance(node, ast.ExceptHandler):
-                    self.assertIsInstance(node.type, ast.Name, where)
-                    self.assertTrue(node.type.id in self.own_names() | {"KeyError", "ZeroDivisionError"}, where)
+                    for caught in node.type.elts if isinstance(node.type, ast.Tuple) else [node.type]:
+                        self.assertIsInstance(caught, ast.Name, where)
+                        self.assertTrue(caught.id in own | {"KeyError", "ZeroDivisionError"}, where)
                 if isinstance(node, ast.Raise) and node.exc is not None:
                     self.assertIsInstance(node.exc, ast.Call, where)
                     self.assertIsInstance(node.exc.func, ast.Name, where)

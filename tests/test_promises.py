@@ -4,12 +4,20 @@ import random
 import unittest
 
 from openorder.checker import is_let_by
+from openorder.code import compiled, rows_of
+from openorder.codemachine import code_choices, code_run
+from openorder.codetexts import code_in, code_text
+from openorder.desk import answers
 from openorder.exchanges import apart, between, exchanged, turned_about
 from openorder.explorer import ends, runs_many
 from openorder.errors import TooMany
+from openorder.fitting import fitted
 from openorder.machine import run, turns
 from openorder.mending import first_mend, marks_needed, mended
+from openorder.optimizer import PASSES, optimized
+from openorder.reader import program_text
 from openorder.watcher import accesses, conflicts, first_conflict, is_calm
+from openorder.workshop import Workshop
 from tests.maker import Clasher, Maker
 from tests.programs import CALLS, CALM, CLASH, DEMO, PAIR, TWICE, TWO
 from tests.runs import all_runs
@@ -137,6 +145,59 @@ class Promises(unittest.TestCase):
                 if result[0][0] == "ended":
                     self.assertEqual(run(form, inputs, choices), result)
         self.assertGreater(min(let_by, mended_many), 15)
+
+    def test_all_code_does_what_a_run_without_a_conflict_does(self):
+        ended = stopped = 0
+        for program, inputs, runs in self.programs:
+            if first_conflict(program, inputs, runs[-1]) is not None:
+                continue
+            result = run(program, inputs, runs[-1])
+            chance = random.Random(len(runs))
+            words = [chance.choice(PASSES) for _ in range(4)]
+            codes = [rows_of(program)] + [compiled(program, registers) for registers in range(3, 9)]
+            shorter = [optimized(program), optimized(program, words)]
+            codes += shorter + [fitted(code, 3) for code in shorter] + [code_in(code_text(code)) for code in shorter]
+            for code in codes:
+                found, done = code_run(code, inputs)
+                if result[0][0] == "ended":
+                    ended += 1
+                    self.assertEqual(found, result)
+                    self.assertLessEqual(done if code in shorter else 0, code_run(codes[0], inputs)[1])
+                else:
+                    stopped += 1
+                    self.assertEqual((found[0][0], found[0][1:] in result[0][1]), ("stopped", True))
+                    self.assertEqual(found[1], result[1][:len(found[1])])
+            for registers in (3, 8):
+                followed = code_choices(program, inputs, registers)
+                self.assertEqual(run(program, inputs, followed)[1:], result[1:])
+        self.assertGreater(min(ended, stopped), 20)
+
+    def test_a_workshop_answers_as_a_new_one(self):
+        for number, (program, inputs, runs) in enumerate(self.programs):
+            shop = Workshop(self.programs[number - 1][0])
+            names = shop.functions()
+            deeds = [("lay", entry) for entry in program[0]]
+            deeds += [("put" if function[0] not in names else "replace", function) for function in program[1]]
+            for whole in (True, False):
+                try:
+                    shop.do(deeds + [("mend",), ("take", "nobody")], whole=whole)
+                except (ValueError, LookupError):
+                    self.assertEqual(whole and shop.deeds(), 0 if whole else False)
+            self.check_workshop(shop)
+            while shop.undo():
+                self.check_workshop(shop)
+            self.assertEqual(shop.program_now(), self.programs[number - 1][0])
+
+    def check_workshop(self, shop):
+        program = shop.program_now()
+        fresh = Workshop(program)
+        inputs = [1] * len(program[1][-1][1])
+        self.assertEqual(shop, fresh)
+        self.assertEqual(shop.run(inputs), run(program, inputs))
+        self.assertEqual((shop.text(), shop.first_refused(), shop.code_for(5), repr(shop)),
+                         (fresh.text(), fresh.first_refused(), fresh.code_for(5), repr(fresh)))
+        self.assertEqual(answers(shop.text() + "\n\ncheck\nmend\ncheck\nshow")[2:],
+                         ["yes", program_text(mended(program, first_mend(program))).replace("\n", " / ")])
 
     def test_an_example_with_many_runs(self):
         self.assertEqual(sum(told[1] for told in ends(TWICE, [4])), runs_many(TWICE, [4]))
