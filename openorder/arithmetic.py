@@ -2,10 +2,13 @@
 
 SPAN = 4294967296
 LEAST = -2147483648
+GREATEST = 2147483647
 
 
 def wrapped(number):
     """Return the value that a number outside of the values wraps around to."""
+    if LEAST <= number <= GREATEST:
+        return number
     return (number - LEAST) % SPAN + LEAST
 
 

@@ -1,10 +1,10 @@
 """A body at work: the statement that is reached and its full expression so far."""
 
-from openorder.shapes import CHOOSING, WRITING, array_in, chosen_part
+from openorder.shapes import CHOOSING, DIVIDING, WRITING, array_in, chosen_part
 
 DEEPEST = 11
-HINDERED = ("op", "call", "item", "refitem", "set", "add", "inc")
-WAITING = ("call", "and", "or", "cond", "comma")
+HINDERED = {"call": True, "item": True, "refitem": True, "set": True, "add": True, "inc": True}
+WAITING = {"call": True, "and": True, "or": True, "cond": True, "comma": True}
 
 
 class Body:
@@ -14,18 +14,20 @@ class Body:
     pairs (PLACE, value); blocked the pairs (node, word) of the blocked steps; failed, by nodes,
     those of the calls whose bodies are blocked for good. possible has the turns that are possible,
     ascending: a turn is kept as twice its node, a write as one more, so they ascend as TURNs do.
+    home is the number that a trail gives the evaluation of the full expression, -1 at first.
     """
 
     def __init__(self, layout, function):
         self.layout = layout
         self.function = function
+        self.rows = layout.rows[function]
         self.number = 0
         self.depth = 0
         self.call = -1
         self.variables = {}
         self.returned = None
         self.row = 0
-        self.round = 0
+        self.home = -1
         self.top = -1
         self.worked = {}
         self.due = {}
@@ -42,7 +44,7 @@ class Body:
         other.variables = dict(self.variables)
         other.returned = self.returned
         other.row = self.row
-        other.round = self.round
+        other.home = self.home
         other.top = self.top
         other.worked = dict(self.worked)
         other.due = dict(self.due)
@@ -58,42 +60,45 @@ class Body:
 
     def reach(self, row):
         """Go on at a row: begin its full expression, or return 0 behind the last row."""
-        rows = self.layout.rows[self.function]
+        rows = self.rows
         while row < len(rows) and rows[row][0] == "jump":
             row = rows[row][2]
         if row == len(rows):
             self.returned = 0
             return
+        top = rows[row][1]
         self.row = row
-        self.round += 1
-        self.top = rows[row][1]
-        self.worked = dict(self.layout.constants_in(self.top))
-        self.begin(self.top)
+        self.home = -1
+        self.top = top
+        beginnings = self.layout.beginnings
+        if top not in beginnings:
+            beginnings[top] = self.layout.beginning_of(top)
+        constants, turns = beginnings[top]
+        self.worked = dict(constants)
+        if turns is None:
+            self.begin(top)
+        else:
+            self.possible = list(turns)
 
     def go_on(self):
         """Go on behind a full expression that is whole."""
-        row = self.layout.rows[self.function][self.row]
-        value = self.worked[self.top]
-        if row[0] == "return":
-            self.returned = value
-        elif row[0] == "unless" and value == 0:
+        row = self.rows[self.row]
+        word = row[0]
+        if word == "return":
+            self.returned = self.worked[self.top]
+        elif word == "unless" and self.worked[self.top] == 0:
             self.reach(row[2])
         else:
             self.reach(self.row + 1)
 
-    def is_whole(self):
-        """Tell whether the full expression is whole."""
-        return self.top in self.worked and len(self.due) == 0
-
     def begin(self, node):
         """Begin a node: those in it that wait for nothing are admitted."""
         for opened in self.layout.opened_by(node):
-            self.admit(opened)
+            self.admit(opened, self.layout.expressions[opened])
 
-    def admit(self, node):
+    def admit(self, node, expression):
         """Take up an own step that waits for nothing: it is possible, or it is blocked."""
-        expression = self.layout.expressions[node]
-        if expression[0] in HINDERED:
+        if expression[0] in HINDERED or expression[0] == "op" and expression[1] in DIVIDING:
             word = self.hindrance(node, expression)
             if word != "":
                 self.blocked.append((node, word))
@@ -102,17 +107,20 @@ class Body:
 
     def offer(self, turn):
         """Add a turn to the possible ones."""
-        self.possible.append(turn)
-        if len(self.possible) > 1 and self.possible[-2] > turn:
-            self.possible = sorted(self.possible)
+        possible = self.possible
+        if len(possible) == 0 or possible[-1] < turn:
+            possible.append(turn)
+        elif turn < possible[0]:
+            possible.insert(0, turn)
+        else:
+            possible.append(turn)
+            self.possible = sorted(possible)
 
     def hindrance(self, node, expression):
         """Return the word that tells why an own step blocks, or "" if it can be done."""
         word = expression[0]
         if word == "op":
-            if expression[1] in ("/", "~") and self.worked[self.layout.parts[node][1]] == 0:
-                return "nought"
-            return ""
+            return "nought" if self.worked[self.layout.parts[node][1]] == 0 else ""
         if word == "call":
             return "deep" if self.depth >= DEEPEST else ""
         array = array_in(expression)
@@ -123,28 +131,29 @@ class Body:
 
     def finish(self, node, value):
         """Keep the value that an own step gives, and admit what waited only for it."""
-        self.worked[node] = value
+        worked = self.worked
+        worked[node] = value
         layout = self.layout
         if layout.expressions[node][0] in WRITING:
             self.offer(node + node + 1)
         above = layout.above[node]
         if above < 0:
             return
-        if is_side_by_side(layout.expressions[above]):
+        expression = layout.expressions[above]
+        if expression[0] not in WAITING and expression[-1] != 1:
             for part in layout.parts[above]:
-                if part not in self.worked:
+                if part not in worked:
                     return
-            self.admit(above)
-        elif layout.expressions[above][0] in CHOOSING and node != layout.parts[above][0]:
-            self.admit(above)
-        elif self.has_no_write_due(node):
+            self.admit(above, expression)
+        elif expression[0] in CHOOSING and node != layout.parts[above][0]:
+            self.admit(above, expression)
+        elif len(self.due) == 0 or self.has_no_write_due(node):
             self.go_on_above(node, above)
 
     def written(self, node):
-        """Take a write off those that are due, and admit what waited only for it."""
-        self.due.pop(node)
+        """Admit what waited only for a write, which is no longer due."""
         above = self.layout.above
-        while self.has_no_write_due(node) and above[node] >= 0:
+        while above[node] >= 0 and self.has_no_write_due(node):
             if above[node] not in self.worked:
                 if not is_side_by_side(self.layout.expressions[above[node]]):
                     self.go_on_above(node, above[node])
@@ -169,18 +178,19 @@ class Body:
             behind = parts.index(node) + 1
             self.begin_next(parts[behind] if behind < len(parts) else None, above)
         elif all([part in self.worked for part in parts]) and self.has_no_write_due(above):
-            self.admit(above)
+            self.admit(above, expression)
 
     def begin_next(self, part, above):
         """Begin a part of the node above, or admit this one if there is no part to begin."""
+        expression = self.layout.expressions[above]
         if part is None:
-            self.admit(above)
+            self.admit(above, expression)
             return
         self.begin(part)
         if part not in self.worked:
             return
-        if self.layout.expressions[above][0] in CHOOSING:
-            self.admit(above)
+        if expression[0] in CHOOSING:
+            self.admit(above, expression)
         else:
             self.go_on_above(part, above)
 

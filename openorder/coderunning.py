@@ -1,10 +1,9 @@
 """A run of code at one moment."""
 
 from openorder.arithmetic import calculated, wrapped
+from openorder.bodies import DEEPEST
 from openorder.cells import cells_at_first, values_told
 from openorder.errors import OtherInputs
-
-DEEPEST = 11
 
 
 class Frame:

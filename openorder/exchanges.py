@@ -10,17 +10,17 @@ from openorder.trails import Trail
 def exchanged(program, inputs, choices, at, *, most=2000):
     """Return the CHOICES with the piece of turn at and the one side by side behind it exchanged."""
     trail = Trail(program, inputs, choices, most)
-    if not 0 <= at < len(trail.turns):
+    turns = trail.turns()
+    if not 0 <= at < len(turns):
         raise NoTurn(at)
     ends = trail.piece_ends()
     behind = ends[at]
-    if behind == len(trail.turns) or trail.homes[behind] != trail.homes[at]:
+    if behind == len(turns) or trail.homes[behind] != trail.homes[at]:
         raise Last(at)
     if trail.orders.must_come_before(trail.item_of(at), trail.item_of(behind)):
         raise Bound(at)
     end = ends[behind]
-    return choices_for(program, inputs, trail.turns[:at] + trail.turns[behind:end]
-                       + trail.turns[at:behind] + trail.turns[end:])
+    return choices_for(program, inputs, turns[:at] + turns[behind:end] + turns[at:behind] + turns[end:])
 
 
 def choices_for(program, inputs, some):
@@ -32,7 +32,7 @@ def apart(program, inputs, one, other, *, most=2000):
     """Return how many pairs of pieces of one evaluation come the other way about in the other run."""
     trail = Trail(program, inputs, one, most)
     places = like_places(trail, Trail(program, inputs, other, most))
-    return sum([turned_many(pieces, places) for pieces in trail.pieces])
+    return sum([turned_many(pieces, places) for pieces in trail.pieces()])
 
 
 def between(program, inputs, one, other, *, most=2000):
@@ -55,9 +55,10 @@ def turned_about(program, inputs, choices, *, most=2000):
     one = trail.piece_around(meeting[0], home)
     other = trail.piece_around(meeting[1], home)
     ends = trail.piece_ends()
-    some = trail.turns[:one]
-    for piece in trail.pieces[home]:
+    turns = trail.turns()
+    some = turns[:one]
+    for piece in trail.pieces()[home]:
         is_needed = trail.orders.must_come_before(trail.item_of(piece), trail.item_of(other))
         if piece == other or one < piece < other and is_needed:
-            some.extend(trail.turns[piece:ends[piece]])
+            some.extend(turns[piece:ends[piece]])
     return choices_for(program, inputs, some)

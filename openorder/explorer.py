@@ -34,19 +34,20 @@ def runs_many(program, inputs, choices=(), *, most=2000):
         raise Conflicted(conflict_of(trail, meeting))
     known = {}
     product_so_far = 1
-    for pieces in trail.pieces:
-        key = evaluation_of(trail, pieces)
-        if key not in known:
-            ordering = trail.orders.ordering_of(key[0])
-            known[key] = orders_many(ordering.before, key[1])
-        product_so_far *= known[key]
+    for top, mask in evaluations_of(trail):
+        if (top, mask) not in known:
+            known[(top, mask)] = orders_many(trail.orders.ordering_of(top).before, mask)
+        product_so_far *= known[(top, mask)]
     return product_so_far
 
 
-def evaluation_of(trail, pieces):
-    """Return the full expression of an evaluation and the mask of the ITEMs that came in it."""
-    top = trail.layout.top_of(trail.turns[pieces[0]][1])
-    mask = 0
-    for at in pieces:
-        mask |= 1 << trail.orders.place_in(top, trail.item_of(at))
-    return (top, mask)
+def evaluations_of(trail):
+    """Return the list of the full expressions of the evaluations and the masks of the ITEMs that came in them."""
+    orders = trail.orders
+    masks = [0 for _ in trail.tops]
+    bits = {}
+    for number, home in zip(trail.numbers, trail.homes):
+        if number not in bits:
+            bits[number] = 1 << orders.place_in(trail.tops[home], orders.item_at(number))
+        masks[home] |= bits[number]
+    return list(zip(trail.tops, masks))

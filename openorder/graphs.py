@@ -39,11 +39,13 @@ class Graph:
         """Return the STATEs behind one more turn, as pairs (number, run), but for runs that are over."""
         numbers = {}
         found = []
+        is_alone = len(layer) == 1 and layer[0][1].many_possible() == 1
         for number, running in layer:
-            for place in range(running.many_possible()):
-                behind = running.twin()
+            last = running.many_possible() - 1
+            for place in range(last + 1):
+                behind = running.twin() if place < last else running
                 behind.take(place)
-                state = state_of(behind)
+                state = () if is_alone else state_of(behind)
                 if state not in numbers:
                     numbers[state] = self.add_state(behind)
                     if behind.end is None:
@@ -55,13 +57,21 @@ class Graph:
         """Count the runs from each STATE on; all that lie behind it have greater numbers."""
         self.counts = [{} for _ in self.nexts]
         for number in reversed(range(len(self.nexts))):
-            count = {}
-            if self.results[number] is not None:
-                count[self.results[number]] = 1
-            for behind in self.nexts[number]:
-                for result, many in self.counts[behind].items():
-                    count[result] = count.get(result, 0) + many
-            self.counts[number] = count
+            behind = self.nexts[number]
+            if len(behind) == 1:
+                self.counts[number] = self.counts[behind[0]]
+            else:
+                self.counts[number] = self.count_behind(number)
+
+    def count_behind(self, number):
+        """Return the numbers of runs from a STATE on: of an end one, of any other those of the next ones."""
+        if self.results[number] is not None:
+            return {self.results[number]: 1}
+        count = {}
+        for behind in self.nexts[number]:
+            for result, many in self.counts[behind].items():
+                count[result] = count.get(result, 0) + many
+        return count
 
     def least_choices(self, result):
         """Return the least choices, one for each turn, of a run with this RESULT."""

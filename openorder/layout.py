@@ -1,6 +1,6 @@
 """A program with its nodes numbered and its bodies laid out as rows."""
 
-from openorder.shapes import CHOOSING, chosen_part, parts_of
+from openorder.shapes import CHOOSING, chosen_part, may_block, parts_of
 
 
 class Layout:
@@ -26,6 +26,7 @@ class Layout:
         self.ends = {}
         self.constants = {}
         self.openings = {}
+        self.beginnings = {}
         for name, params, body in functions:
             rows = []
             self.lay_body(body, rows)
@@ -104,6 +105,17 @@ class Layout:
                     found[node] = (expression[1], 0)
             self.constants[top] = found
         return self.constants[top]
+
+    def beginning_of(self, top):
+        """Return what a full expression begins with: what constants_in tells, and the list of its turns.
+
+        Turns are told as twice their nodes; None in the place of the list if one of them may block.
+        """
+        opened = self.opened_by(top)
+        turns = [node + node for node in opened]
+        if any([may_block(self.expressions[node]) for node in opened]):
+            turns = None
+        return (self.constants_in(top), turns)
 
     def opened_by(self, node):
         """Return the nodes whose own steps wait for nothing when a node begins, in their order."""

@@ -10,26 +10,29 @@ def like_places(one, other):
     """
     likes = matched(other, one)
     found = {like: at for at, like in enumerate(likes) if like is not None}
-    for at in range(len(one.turns)):
+    many = len(one.numbers)
+    for at in range(many):
         if at not in found:
             raise Unlike(at)
-    if len(other.turns) > len(one.turns):
-        raise Unlike(len(one.turns))
+    if len(other.numbers) > many:
+        raise Unlike(many)
     return found
 
 
 def matched(trail, model):
     """Return the list of the places in the model of the turns like those of a run, None for none."""
     named = {}
-    for at, turn in enumerate(model.turns):
+    ranks = model.ranks()
+    for at, turn in enumerate(model.turns()):
         home = model.homes[at]
-        named[(model.uppers[home], model.ranks[home], turn)] = at
+        named[(model.uppers[home], ranks[home], turn)] = at
     likes = []
-    for at, turn in enumerate(trail.turns):
+    ranks = trail.ranks()
+    for at, turn in enumerate(trail.turns()):
         home = trail.homes[at]
         upper = trail.uppers[home]
         like = likes[upper] if upper >= 0 else -1
-        likes.append(named.get((like, trail.ranks[home], turn), None))
+        likes.append(named.get((like, ranks[home], turn), None))
     return likes
 
 
@@ -54,19 +57,20 @@ class Turning:
         self.trail = trail
         self.places = places
         self.ends = trail.piece_ends()
+        self.pieces = trail.pieces()
         self.exchanges = []
         self.inner = {}
         for home, upper in enumerate(trail.uppers):
             self.inner.setdefault(upper, []).append(home)
         for home in self.inner.get(-1, []):
-            self.turn_evaluation(home, trail.pieces[home][0])
+            self.turn_evaluation(home, self.pieces[home][0])
 
     def turn_evaluation(self, home, start):
         """Turn the pieces of an evaluation that starts at this place, then those in its calls."""
-        pieces = self.sorted_pieces(list(self.trail.pieces[home]), start)
+        pieces = self.sorted_pieces(list(self.pieces[home]), start)
         for piece in pieces:
             for inner in self.inner.get(piece, []):
-                self.turn_evaluation(inner, start + self.trail.pieces[inner][0] - piece)
+                self.turn_evaluation(inner, start + self.pieces[inner][0] - piece)
             start += self.ends[piece] - piece
 
     def sorted_pieces(self, pieces, start):

@@ -13,19 +13,23 @@ def run(program, inputs, choices=(), *, most=2000):
 def run_by(program, inputs, choices, most):
     """Return what run returns."""
     running = begun(program, inputs)
+    chosen_many = len(choices)
     for at in range(most):
         if running.end is not None:
             break
-        running.take(place_chosen(running, choices, at))
+        running.take(place_chosen(running, choices, at) if at < chosen_many else 0)
     return running.outcome()
 
 
 def turns(program, inputs, choices=(), *, most=2000):
     """Return the list of the TURNs of the run of these CHOICES, cut after the most turns."""
     running = begun(program, inputs)
+    chosen_many = len(choices)
     done = []
-    while running.end is None and len(done) < most:
-        place = place_chosen(running, choices, len(done))
+    for at in range(most):
+        if running.end is not None:
+            break
+        place = place_chosen(running, choices, at) if at < chosen_many else 0
         done.append(running.turn_at(place))
         running.take(place)
     return done

@@ -15,38 +15,64 @@ def levels_of(trail, at):
 
 
 def first_meeting(trail):
-    """Return the meeting of the earliest access that has one, with the last one ahead, or None."""
+    """Return the meeting of the earliest access that has one, with the last one ahead, or None.
+
+    seen has the masks of the turns that read and that wrote a PLACE, by evaluations and PLACEs. Of
+    two turns of one evaluation the later one need not come before the earlier one; so they are
+    unsequenced if the earlier one need not come before the later one.
+    """
     seen = {}
+    chains = {}
+    orders, tops = trail.orders, trail.tops
     for at, sight in enumerate(trail.sights):
         if sight is None:
             continue
         place, sort = sight
-        levels = levels_of(trail, at)
-        earlier, home = -1, -1
-        for level in levels:
-            told = seen.get((level[0], place), {})
-            last = last_meeting(trail.orders, told, level[1], sort)
-            if last > earlier:
-                earlier, home = last, level[0]
-        if earlier >= 0:
-            return (earlier, at, home)
-        for level in levels:
-            told = seen.setdefault((level[0], place), {})
-            told[(level[1], sort)] = at
+        home = trail.homes[at]
+        if home not in chains:
+            chains[home] = chain_above(trail, home, chains)
+        for level, number in [(home, trail.numbers[at])] + chains[home]:
+            own = orders.bit_of(number, tops[level])
+            reads, writes = seen.get((level, place), (0, 0))
+            if sort == "read":
+                met = writes & ~own
+                seen[(level, place)] = (reads | own, writes)
+            else:
+                met = (reads | writes) & ~own
+                seen[(level, place)] = (reads, writes | own)
+            if met != 0 and met & ~orders.ahead_of(number, tops[level]) != 0:
+                return last_meeting(trail, at)
     return None
 
 
-def last_meeting(orders, told, item, sort):
-    """Return the place of the last access that one of this ITEM and sort conflicts with, or -1.
+def chain_above(trail, home, chains):
+    """Return the list of the pairs (home, turn) of the calls through which an evaluation comes about.
 
-    told has the places of the last accesses to its PLACE in one evaluation, by ITEMs and sorts.
+    Calls that are unsequenced with nothing are left out. chains keeps what was found out.
     """
-    last = -1
-    for (other, other_sort), at in told.items():
-        if at > last and "write" in (sort, other_sort) and other != item:
-            if orders.are_unsequenced(other, item):
-                last = at
-    return last
+    upper = trail.uppers[home]
+    if upper < 0:
+        return []
+    above = trail.homes[upper]
+    if above not in chains:
+        chains[above] = chain_above(trail, above, chains)
+    if trail.orders.is_bound(trail.node_of(upper)):
+        return chains[above]
+    return [(above, trail.numbers[upper])] + chains[above]
+
+
+def last_meeting(trail, at):
+    """Return the meeting of an access with the last one ahead with which it conflicts."""
+    place, sort = trail.sights[at]
+    items = dict(levels_of(trail, at))
+    for earlier in range(at - 1, -1, -1):
+        sight = trail.sights[earlier]
+        if sight is None or sight[0] != place or "write" not in (sort, sight[1]):
+            continue
+        for home, item in levels_of(trail, earlier):
+            if home in items and items[home] != item and trail.orders.are_unsequenced(item, items[home]):
+                return (earlier, at, home)
+    return None
 
 
 def conflict_of(trail, meeting):

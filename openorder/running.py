@@ -48,16 +48,18 @@ class Running:
 
     def settle(self):
         """Do what needs no turn, until a turn is possible or the run is over."""
-        while self.end is None:
-            body = self.bodies[-1]
+        body = self.bodies[-1]
+        while len(body.possible) == 0:
+            if body.returned is None and body.top in body.worked and len(body.due) == 0:
+                body.go_on()
+                continue
             if body.returned is not None:
                 self.leave(body)
-            elif len(body.possible) > 0:
-                return
-            elif body.is_whole():
-                body.go_on()
             else:
                 self.give_up(body)
+            if self.end is not None:
+                return
+            body = self.bodies[-1]
 
     def leave(self, body):
         """Leave a body that has returned: its call is worked out, or the run is over."""
@@ -113,42 +115,31 @@ class Running:
         body = self.bodies[-1]
         turn = body.possible.pop(place)
         node = turn // 2
-        expression = self.layout.expressions[node]
         if turn > node + node:
-            target, value = body.due[node]
-            self.write(body, target, value)
+            target, value = body.due.pop(node)
+            if target[0] == "global":
+                self.cells[target[1]][target[2]] = value
+            else:
+                body.variables[target[2]] = value
             body.written(node)
-        elif expression[0] == "call":
-            self.begin_call(body, node)
         else:
-            step = STEPS[expression[0]]
-            body.finish(node, step(self, body, node, expression))
-        if len(self.bodies[-1].possible) == 0:
+            expression = self.layout.expressions[node]
+            word = expression[0]
+            if word == "call":
+                body = self.begin_call(body, node)
+            else:
+                step = STEPS[word]
+                body.finish(node, step(self, body, node, expression))
+        if len(body.possible) == 0:
             self.settle()
 
     def begin_call(self, body, node):
-        """Begin the body of a call."""
+        """Begin the body of a call; return it."""
         given = [body.worked[part] for part in self.layout.parts[node]]
         inner = Body(self.layout, self.layout.expressions[node][1])
         inner.call = node
         self.enter(inner, given)
-
-    def read(self, body, name):
-        """Return the value of a variable in a body."""
-        return body.variables[name] if name in body.variables else self.cells[name][0]
-
-    def write(self, body, place, value):
-        """Store a value in a PLACE; the only locals that are written are those of the body."""
-        if place[0] == "global":
-            self.cells[place[1]][place[2]] = value
-        else:
-            body.variables[place[2]] = value
-
-    def place_named(self, body, name):
-        """Return the PLACE of a variable in a body."""
-        if name in self.cells:
-            return ("global", name, 0)
-        return ("local", body.number, name)
+        return inner
 
     def outcome(self):
         """Return the RESULT, of a run that is cut here if it is not over."""

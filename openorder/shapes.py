@@ -6,11 +6,14 @@ PART_PLACES = {
     "item": (2,), "refitem": (2,), "op": (2, 3),
     "and": (1, 2), "or": (1, 2), "comma": (1, 2), "cond": (1, 2, 3),
 }
-MARKABLE = (
-    "item", "refitem", "at", "neg", "not", "print", "op", "set", "add", "inc", "call",
-)
-CHOOSING = ("and", "or", "cond", "comma")
-WRITING = ("set", "add", "inc")
+# Dicts, since they are asked again and again.
+MARKABLE = {
+    "item": True, "refitem": True, "at": True, "neg": True, "not": True, "print": True, "op": True,
+    "set": True, "add": True, "inc": True, "call": True,
+}
+CHOOSING = {"and": True, "or": True, "cond": True, "comma": True}
+WRITING = {"set": True, "add": True, "inc": True}
+DIVIDING = {"/": True, "~": True}
 
 
 def parts_of(expression):
@@ -54,6 +57,13 @@ def array_in(expression):
     if expression[0] in WRITING:
         expression = expression[1]
     return expression[1] if expression[0] in ("item", "refitem") else ""
+
+
+def may_block(expression):
+    """Tell whether the own step of a node may block."""
+    if expression[0] == "op":
+        return expression[1] in DIVIDING
+    return expression[0] == "call" or array_in(expression) != ""
 
 
 def chosen_part(word, first, parts):

@@ -6,27 +6,31 @@ from openorder.shapes import chosen_part
 
 def place_of(running, body, place, parts):
     """Return the PLACE that an lv, or a node that only reads, leads to."""
-    if place[0] == "var":
-        return running.place_named(body, place[1])
+    word = place[0]
+    if word == "var":
+        name = place[1]
+        return ("global", name, 0) if name in running.cells else ("local", body.number, name)
     leading = body.worked[parts[0]]
-    if place[0] == "item":
+    if word == "item":
         return ("global", place[1], leading)
     return ("global", leading[0], leading[1])
 
 
-def value_at(running, body, place, parts):
-    """Return the value at the place to which an lv, or a node that only reads, leads."""
-    if place[0] == "var":
-        return running.read(body, place[1])
-    leading = body.worked[parts[0]]
-    if place[0] == "item":
-        return running.cells[place[1]][leading]
-    return running.cells[leading[0]][leading[1]]
+def step_of_var(running, body, node, expression):
+    """Read a variable."""
+    name = expression[1]
+    return body.variables[name] if name in body.variables else running.cells[name][0]
 
 
-def step_of_reader(running, body, node, expression):
-    """Read the place of a var, an item or an at."""
-    return value_at(running, body, expression, body.layout.parts[node])
+def step_of_item(running, body, node, expression):
+    """Read an item."""
+    return running.cells[expression[1]][body.worked[body.layout.parts[node][0]]]
+
+
+def step_of_at(running, body, node, expression):
+    """Read what a reference leads to."""
+    name, index = body.worked[body.layout.parts[node][0]]
+    return running.cells[name][index]
 
 
 def step_of_refitem(running, body, node, expression):
@@ -81,21 +85,23 @@ def step_of_set(running, body, node, expression):
 def step_of_add(running, body, node, expression):
     """Read the place and give the sum, which the write stores."""
     parts = body.layout.parts[node]
-    value = wrapped(value_at(running, body, expression[1], parts) + body.worked[parts[-1]])
-    body.due[node] = (place_of(running, body, expression[1], parts), value)
+    place = place_of(running, body, expression[1], parts)
+    old = running.cells[place[1]][place[2]] if place[0] == "global" else body.variables[place[2]]
+    value = wrapped(old + body.worked[parts[-1]])
+    body.due[node] = (place, value)
     return value
 
 
 def step_of_inc(running, body, node, expression):
     """Read the place and give what it reads; the write stores 1 more."""
-    parts = body.layout.parts[node]
-    value = value_at(running, body, expression[1], parts)
-    body.due[node] = (place_of(running, body, expression[1], parts), wrapped(value + 1))
+    place = place_of(running, body, expression[1], body.layout.parts[node])
+    value = running.cells[place[1]][place[2]] if place[0] == "global" else body.variables[place[2]]
+    body.due[node] = (place, wrapped(value + 1))
     return value
 
 
 STEPS = {
-    "var": step_of_reader, "item": step_of_reader, "at": step_of_reader, "refitem": step_of_refitem,
+    "var": step_of_var, "item": step_of_item, "at": step_of_at, "refitem": step_of_refitem,
     "neg": step_of_neg, "not": step_of_not, "op": step_of_op, "print": step_of_print,
     "and": step_of_chosen, "or": step_of_chosen, "cond": step_of_chosen, "comma": step_of_chosen,
     "set": step_of_set, "add": step_of_add, "inc": step_of_inc,
