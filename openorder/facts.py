@@ -8,13 +8,20 @@ NEVER_STOPPING = ("num", "ref", "copy", "get", "getat", "neg", "not")
 
 
 class Facts:
-    """The accesses of a program's ITEMs, kept as they are asked for."""
+    """What a program's ITEMs may access, found out when it is first asked for: many passes do without."""
 
     def __init__(self, program):
-        self.refusals = Refusals(program)
-        self.sizes = self.refusals.layout.sizes
+        self.program = program
+        self.sizes = {entry[1]: entry[2] for entry in program[0] if entry[0] == "array"}
         self.variables = {entry[1]: True for entry in program[0]}
         self.told = {}
+        self.kept = None
+
+    def refusals(self):
+        """Return what the checker knows of the program."""
+        if self.kept is None:
+            self.kept = Refusals(self.program)
+        return self.kept
 
     def names(self, row, sort):
         """Return the dict of the names that a ROW may access in this sort, "read" or "write"."""
@@ -23,7 +30,7 @@ class Facts:
         key = (item_of(row), sort)
         if key not in self.told:
             found = {}
-            for name, told in self.refusals.accesses_of(key[0]):
+            for name, told in self.refusals().accesses_of(key[0]):
                 if told == sort:
                     found[name] = True
             self.told[key] = found
@@ -31,11 +38,11 @@ class Facts:
 
     def top_of(self, row):
         """Return the last node of the full expression from which a ROW comes."""
-        return self.refusals.layout.top_of(row[-1])
+        return self.refusals().layout.top_of(row[-1])
 
     def are_unsequenced(self, one, other):
         """Tell whether the ITEMs of two ROWs of one full expression are unsequenced."""
-        return self.refusals.orders.are_unsequenced(item_of(one), item_of(other))
+        return self.refusals().orders.are_unsequenced(item_of(one), item_of(other))
 
     def cannot_stop(self, draft, row):
         """Tell whether a ROW never stops code."""
