@@ -14,16 +14,18 @@ def wrapped(number):
 
 def calculated(sign, left, right):
     """Return what an operation gives; the right one is not 0 for / and ~."""
-    if sign == "==":
-        return 1 if left == right else 0
     if sign == "<":
         return 1 if left < right else 0
+    if sign == "==":
+        return 1 if left == right else 0
     if sign == "+":
-        return wrapped(left + right)
-    if sign == "-":
-        return wrapped(left - right)
-    if sign == "*":
-        return wrapped(left * right)
-    if sign == "/":
-        return wrapped(left // right)
-    return wrapped(left - right * (left // right))
+        number = left + right
+    elif sign == "-":
+        number = left - right
+    elif sign == "*":
+        number = left * right
+    elif sign == "/":
+        number = left // right
+    else:
+        number = left - right * (left // right)
+    return number if LEAST <= number <= GREATEST else wrapped(number)

@@ -93,8 +93,10 @@ class Body:
 
     def begin(self, node):
         """Begin a node: those in it that wait for nothing are admitted."""
-        for opened in self.layout.opened_by(node):
-            self.admit(opened, self.layout.expressions[opened])
+        layout = self.layout
+        opened = layout.openings[node] if node in layout.openings else layout.opened_by(node)
+        for inner in opened:
+            self.admit(inner, layout.expressions[inner])
 
     def admit(self, node, expression):
         """Take up an own step that waits for nothing: it is possible, or it is blocked."""
